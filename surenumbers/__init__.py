@@ -1,0 +1,1 @@
+"""Statements of whole numbers, told with certificates, kept in houses."""
