@@ -1,5 +1,7 @@
 """What the other modules need of whole numbers and tuples."""
 
+from surenumbers.kinds import GREATEST_LOOKED_AT, MOST_TIMES
+
 
 def is_whole(thing):
     """Whether this is a whole number: Python counts truths among the ints, the document does not."""
@@ -14,3 +16,80 @@ def within(thing, low, high):
 def is_form(thing, word, length):
     """Whether this is a tuple of this length that begins with this word."""
     return isinstance(thing, tuple) and len(thing) == length and thing[0] == word
+
+
+def is_pair(thing):
+    """Whether this is a tuple of two."""
+    return isinstance(thing, tuple) and len(thing) == 2
+
+
+def greatest_shared(one, other):
+    """The greatest divisor that two numbers from 0 on share; 0 where both are 0."""
+    while other != 0:
+        one, other = other, one % other
+    return one
+
+
+def square_root(number):
+    """The greatest number whose square is no more than this one, from 0 on."""
+    root = number
+    while root * root > number:
+        root = (root + number // root) // 2
+    return root
+
+
+def is_square(number):
+    """Whether a number from 0 on is a square."""
+    root = square_root(number)
+    return root * root == number
+
+
+def least_divisor(number):
+    """The least divisor from 2 on of a number; 1 of 1."""
+    divisor = 2
+    while divisor * divisor <= number:
+        if number % divisor == 0:
+            return divisor
+        divisor += 1
+    return number
+
+
+def is_prime(number):
+    """Whether a number from 0 on is prime."""
+    return number >= 2 and least_divisor(number) == number
+
+
+def rest_of_power(base, times, divisor):
+    """The rest by the divisor of a base, from 0 on, taken so many times."""
+    rest = 1 % divisor
+    square = base % divisor
+    while times > 0:
+        if times % 2 == 1:
+            rest = rest * square % divisor
+        square = square * square % divisor
+        times //= 2
+    return rest
+
+
+def are_factors(thing):
+    """Whether this is a tuple of rows (p, e), p from 2 on, rising, unlike; the p need not be prime."""
+    if not isinstance(thing, tuple):
+        return False
+    last = 1
+    for row in thing:
+        if not is_pair(row) or not within(row[0], last + 1, GREATEST_LOOKED_AT) or not within(row[1], 1, MOST_TIMES):
+            return False
+        last = row[0]
+    return True
+
+
+def is_product(rows, number):
+    """Whether a number from 1 on is the product of all p ** e of such rows (p, e)."""
+    product = 1
+    for prime, times in rows:
+        for step in range(times):
+            product *= prime
+            # It only grows, so what is beyond the number stays so: great rows cost no more than small ones.
+            if product > number:
+                return False
+    return product == number

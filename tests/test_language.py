@@ -11,17 +11,17 @@ ROOT = pathlib.Path(__file__).resolve().parent.parent
 PACKAGE = ROOT / "surenumbers"
 
 BUILTINS = set(
-    "len range enumerate zip min max sum abs sorted reversed int str bool bytes list tuple dict set frozenset isinstance ord "
-    "repr any all divmod Exception ValueError TypeError KeyError IndexError LookupError ZeroDivisionError ArithmeticError "
-    "OverflowError RuntimeError NotImplementedError AttributeError StopIteration NotImplemented super property staticmethod "
-    "classmethod".split()
+    "len range enumerate zip min max sum abs sorted reversed int str bool bytes list tuple dict set frozenset "
+    "isinstance ord repr any all divmod Exception ValueError TypeError KeyError IndexError LookupError "
+    "ZeroDivisionError ArithmeticError OverflowError RuntimeError NotImplementedError AttributeError "
+    "StopIteration NotImplemented super property staticmethod classmethod".split()
 )
 METHODS = set(
-    "append clear copy count endswith extend find get index insert isalnum isalpha isdigit islower isspace isupper items join "
-    "keys ljust lower lstrip partition pop remove replace reverse rfind rjust rpartition rsplit rstrip setdefault split "
-    "splitlines startswith strip update upper values zfill bit_length title capitalize swapcase casefold center expandtabs "
-    "removeprefix removesuffix rindex isascii isdecimal isnumeric istitle isidentifier isprintable sort add discard "
-    "__init__".split()
+    "append clear copy count endswith extend find get index insert isalnum isalpha isdigit islower isspace "
+    "isupper items join keys ljust lower lstrip partition pop remove replace reverse rfind rjust rpartition "
+    "rsplit rstrip setdefault split splitlines startswith strip update upper values zfill bit_length title "
+    "capitalize swapcase casefold center expandtabs removeprefix removesuffix rindex isascii isdecimal isnumeric "
+    "istitle isidentifier isprintable sort add discard __init__".split()
 )
 DUNDER_METHODS = set("__init__ __eq__ __repr__ __str__ __len__ __enter__ __exit__ __call__ __iter__".split())
 NAMES_NOWHERE = set("register mro elements open input version_info with_traceback add_note format format_map".split())
@@ -30,8 +30,10 @@ WORDS_NOWHERE = re.compile(
     r"|NamedTuple|TypedDict|TYPE_CHECKING|abstractmethod)\b|dataclass|overload|contextmanager"
 )
 STATEMENTS = (
-    ast.FunctionDef, ast.ClassDef, ast.Return, ast.Delete, ast.Assign, ast.AugAssign, ast.AnnAssign, ast.For, ast.While, ast.If,
-    ast.With, ast.Raise, ast.Try, ast.Assert, ast.ImportFrom, ast.Nonlocal, ast.Expr, ast.Pass, ast.Break, ast.Continue, ast.Match,
+    ast.FunctionDef, ast.ClassDef, ast.Return, ast.Delete, ast.Assign, ast.AugAssign, ast.AnnAssign, ast.For,
+    ast.While, ast.If,
+    ast.With, ast.Raise, ast.Try, ast.Assert, ast.ImportFrom, ast.Nonlocal, ast.Expr, ast.Pass, ast.Break,
+    ast.Continue, ast.Match,
 )
 TAKES_GENERATORS = set("list tuple dict sorted".split())
 FUNCTIONS = (ast.FunctionDef, ast.Lambda)
@@ -122,12 +124,14 @@ def is_wrong_sign(node):
 def is_wrong_is(node):
     """L20: `is` of anything but None, True, False."""
     pairs = zip(node.ops, node.comparators)
-    return any(isinstance(sign, (ast.Is, ast.IsNot)) and ast.unparse(other) not in ("None", "True", "False") for sign, other in pairs)
+    return any(isinstance(sign, (ast.Is, ast.IsNot)) and ast.unparse(other) not in ("None", "True", "False") for sign,
+            other in pairs)
 
 
 def is_wrong_generator(node):
     """L7: beside a class with __eq__ any, all, sum and the like take lists."""
-    return any(isinstance(part, ast.GeneratorExp) for part in node.args) and ast.unparse(node.func) not in TAKES_GENERATORS
+    return any(isinstance(part,
+            ast.GeneratorExp) for part in node.args) and ast.unparse(node.func) not in TAKES_GENERATORS
 
 
 def is_wrong_function(node):
@@ -150,7 +154,8 @@ class TestLanguage(unittest.TestCase):
                 continue
             self.assertRegex(path.name, r"^([a-z][a-z0-9_]*|__init__)\.py$")
             self.assertNotIn(path.stem, dir(builtins))
-            self.assertNotRegex(path.stem, r"^(law_.*|tests?|testing|test_.*|site|conftest|sitecustomize|usercustomize)$")
+            self.assertNotRegex(path.stem,
+                    r"^(law_.*|tests?|testing|test_.*|site|conftest|sitecustomize|usercustomize)$")
 
     def test_signs_and_lengths(self):
         """L10, L14, L17, L27."""
@@ -184,7 +189,8 @@ class TestLanguage(unittest.TestCase):
                     graph[path.stem].append(source)
                     rows = tree_of(PACKAGE / (source + ".py")).body
                     defined = top_names(ast.Module([row for row in rows if not isinstance(row, ast.ImportFrom)], []))
-                    self.assertEqual([alias.name for alias in node.names if alias.name not in defined or alias.asname], [])
+                    self.assertEqual([alias.name for alias in node.names if alias.name not in defined or alias.asname],
+                            [])
         self.assertEqual(graph["__init__"], [])
         while graph:
             free = [name for name in graph if not any(source in graph for source in graph[name])]

@@ -39,7 +39,8 @@ class TestLabels(Kept):
 
 class TestThings(Kept):
     def test_things(self):
-        for thing in (0, 1, -1, 10 ** 39, -(10 ** 39), 10 ** 1000, "a", "abcdefgh", (), (1,), ("a", -5, ()), ((), ((),))):
+        for thing in (0, 1, -1, 10 ** 39, -(10 ** 39), 10 ** 1000, "a", "abcdefgh", (), (1,), ("a", -5, ()),
+                ((), ((),))):
             self.assert_true(is_thing(thing))
             self.assert_true(is_thing((thing, 1, "a", (thing,))))
 
@@ -72,7 +73,8 @@ class TestThings(Kept):
 
 class TestSizes(Kept):
     def test_all_but_tuples(self):
-        for thing in (0, -5, 10 ** 39, True, None, "", "abc", "any text", [], [1, 2, 3], {}, {"a": 1, "b": 2}, [(1, 2)]):
+        for thing in (0, -5, 10 ** 39, True, None, "", "abc", "any text", [], [1, 2, 3], {}, {"a": 1, "b": 2},
+                [(1, 2)]):
             self.assertEqual(size_of(thing), 1)
 
     def test_tuples(self):
@@ -152,14 +154,16 @@ class TestTexts(Kept):
 
 
 NO_TEXTS = (
-    "", " ", "00", "01", "007", "-0", "-00", "-01", "+1", "+0", "--1", "-", "1-", "1-2", "- 1", "1.0", "1e3", "1_000", "0x1",
+    "", " ", "00", "01", "007", "-0", "-00", "-01", "+1", "+0", "--1", "-", "1-", "1-2", "- 1", "1.0", "1e3", "1_000",
+    "0x1",
     "1a", "a1", "-a", "A", "Abc", "aBc", "abC", "abcdefghi", "a.b", "a_b", "a-b", "?", "!", "'a'", '"a"', "~",
     " 1", "1 ", " a", "a ", "\n1", "1\n", "1\n2", "a\n", "a\nb", "\n", "1\t", "\r1", "1\r\n",
     "1 2", "a b", "() ()", "1 ()", "() 1", "()()", "(1)(2)", "1()", "()1", "a()", "()a",
     "(", ")", "((", "))", ")(", "(()", "())", "((1)", "(1))", "(1", "1)", "(1 (2)", "(1 2))", "()(", ")()",
     "( 1)", "(1 )", "( )", "(  )", "(1  2)", "(1   2)", "(1\n2)", "(1\t2)", "(\n)", "( () )", "(() )", "( ())",
     "(()())", "(1())", "(()1)", "(a())", "(()a)", "((1)(2))", "(1 2)3", "3(1 2)",
-    "(1,)", "(1, 2)", "[1]", "[]", "{1}", "{}", "(01)", "(-0)", "(+1)", "(1 -0)", "(abcdefghi)", "(A)", "(True)", "None",
+    "(1,)", "(1, 2)", "[1]", "[]", "{1}", "{}", "(01)", "(-0)", "(+1)", "(1 -0)", "(abcdefghi)", "(A)", "(True)",
+    "None",
     "(1 2) ", " (1 2)", "(1 2)\n", "\u0661", "(\u0661)", "\u00b2", "\u00e4", "(\u00a01)",
 )
 
@@ -206,7 +210,8 @@ class TestNoTexts(Kept):
         text = "(a -10 (b 2) () 305)"
         for at in range(len(text) + 1):
             for sign in "()-0 1aA\n":
-                for other in (text[:at] + sign + text[at:], text[:at] + sign + text[at + 1:], text[:at] + text[at + 1:]):
+                for other in (text[:at] + sign + text[at:], text[:at] + sign + text[at + 1:],
+                        text[:at] + text[at + 1:]):
                     with self.subTest(other):
                         try:
                             thing = read_thing(other)
@@ -231,7 +236,8 @@ class TestRising(Kept):
         self.assertEqual(rising(()), ())
 
     def test_of_one_to_three_figures(self):
-        things = tuple(range(-120, 121)) + tuple(range(-5, 300)) + ("a", "z", "b", "a", (), (1, 2), (10, 2), (9, 2), (1, 2))
+        things = tuple(range(-120, 121)) + tuple(range(-5, 300)) + ("a", "z", "b", "a", (), (1, 2), (10, 2), (9, 2),
+                (1, 2))
         told = rising(things)
         self.assertEqual(type(told), tuple)
         texts = [show_thing(thing) for thing in told]
