@@ -13,6 +13,21 @@ def within(thing, low, high):
     return is_whole(thing) and low <= thing <= high
 
 
+def is_from(thing, low):
+    """Whether this is a whole number from low on."""
+    return is_whole(thing) and thing >= low
+
+
+def are_wholes(thing, many):
+    """Whether this is a tuple of so many whole numbers."""
+    return isinstance(thing, tuple) and len(thing) == many and all([is_whole(part) for part in thing])
+
+
+def are_triples(thing):
+    """Whether this is a tuple of tuples of three whole numbers."""
+    return isinstance(thing, tuple) and all([are_wholes(row, 3) for row in thing])
+
+
 def is_form(thing, word, length):
     """Whether this is a tuple of this length that begins with this word."""
     return isinstance(thing, tuple) and len(thing) == length and thing[0] == word
@@ -28,6 +43,11 @@ def greatest_shared(one, other):
     while other != 0:
         one, other = other, one % other
     return one
+
+
+def least_multiple(one, other):
+    """The least number from 1 on that two numbers from 1 on both divide."""
+    return one // greatest_shared(one, other) * other
 
 
 def square_root(number):
@@ -59,6 +79,14 @@ def is_prime(number):
     return number >= 2 and least_divisor(number) == number
 
 
+def power_of(base, times):
+    """A base taken so many times."""
+    power = 1
+    for step in range(times):
+        power *= base
+    return power
+
+
 def rest_of_power(base, times, divisor):
     """The rest by the divisor of a base, from 0 on, taken so many times."""
     rest = 1 % divisor
@@ -69,6 +97,21 @@ def rest_of_power(base, times, divisor):
         square = square * square % divisor
         times //= 2
     return rest
+
+
+def comes_to_one(base, times, divisor):
+    """Whether a base, from 0 on, taken so many times has the rest 1 by the divisor, from 2 on."""
+    return rest_of_power(base, times, divisor) == 1
+
+
+def is_order(base, divisor, times, factors):
+    """Whether a base comes to 1 at so many times and, by the factors of that, never before."""
+    if not comes_to_one(base, times, divisor):
+        return False
+    for factor, often in factors:
+        if comes_to_one(base, times // factor, divisor):
+            return False
+    return True
 
 
 def are_factors(thing):

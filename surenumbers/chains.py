@@ -1,22 +1,12 @@
 """Chains: rows that show primes, each by those ahead of it."""
 
-from surenumbers.basics import are_factors, is_product, least_divisor, rest_of_power, within
+from surenumbers.basics import are_factors, is_order, is_product, least_divisor, within
 from surenumbers.kinds import GREATEST_LOOKED_AT
 
 
 def are_known_factors(thing, number, known):
     """Whether these are rows (q, e) of known primes whose product is the number."""
     return are_factors(thing) and all([row[0] in known for row in thing]) and is_product(thing, number)
-
-
-def is_root(base, prime, factors):
-    """Whether the base comes to 1 at prime - 1 and, by the factors of that, never before."""
-    if rest_of_power(base, prime - 1, prime) != 1:
-        return False
-    for factor, times in factors:
-        if rest_of_power(base, (prime - 1) // factor, prime) == 1:
-            return False
-    return True
 
 
 def is_chain_row(thing, last, known):
@@ -26,7 +16,7 @@ def is_chain_row(thing, last, known):
     prime, base, factors = thing
     if not within(prime, last + 1, GREATEST_LOOKED_AT) or prime % 2 == 0 or not within(base, 2, prime - 1):
         return False
-    return are_known_factors(factors, prime - 1, known) and is_root(base, prime, factors)
+    return are_known_factors(factors, prime - 1, known) and is_order(base, prime, prime - 1, factors)
 
 
 def is_chain(thing):
@@ -60,7 +50,7 @@ def chain_row(prime):
     """The row of an odd prime."""
     factors = factors_of(prime - 1)
     base = 2
-    while not is_root(base, prime, factors):
+    while not is_order(base, prime, prime - 1, factors):
         base += 1
     return (prime, base, factors)
 

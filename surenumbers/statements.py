@@ -1,6 +1,6 @@
 """Statements: which things are some, of what they are made, which of their numbers are looked at."""
 
-from surenumbers.basics import are_factors, greatest_shared, is_form, is_pair, is_square, is_whole, within
+from surenumbers.basics import are_factors, greatest_shared, is_form, is_from, is_pair, is_square, is_whole, within
 from surenumbers.kinds import GREATEST_LOOKED_AT, WORDS
 from surenumbers.terms import is_term, worth_of
 
@@ -105,11 +105,6 @@ def fits_row(dividend, divisor, parts):
     if not is_number(dividend, 0) or not is_number(divisor, 1) or not isinstance(parts, tuple):
         return False
     return all([within(part, -GREATEST, GREATEST) for part in parts])
-
-
-def is_from(thing, low):
-    """Whether this is a number of any size from low on."""
-    return is_whole(thing) and thing >= low
 
 
 def fits_pell(factor, first, second):

@@ -1,6 +1,7 @@
 """Values of all kinds that the tests hand in."""
 
 import copy
+import math
 import unittest
 
 # Things of all kinds that are no whole number, no label and no tuple.
@@ -17,6 +18,58 @@ def deep(inner, depth):
     for _ in range(depth):
         inner = (inner,)
     return inner
+
+
+def has_form(thing, form):
+    """Whether this is made like the form: int a whole number, a text itself, [form] a tuple of however many."""
+    if form is int:
+        return type(thing) is int
+    if isinstance(form, str):
+        return type(thing) is str and thing == form
+    if type(thing) is not tuple:
+        return False
+    if isinstance(form, list):
+        return all(has_form(part, form[0]) for part in thing)
+    return len(thing) == len(form) and all(has_form(part, inner) for part, inner in zip(thing, form))
+
+
+CHAIN = [(int, int, [(int, int)])]
+
+
+def is_right_chain(thing):
+    """Point 9 word by word, of anything."""
+    if not has_form(thing, CHAIN):
+        return False
+    for at, (p, g, factors) in enumerate(thing):
+        ahead = [2] + [row[0] for row in thing[:at]]
+        qs = [q for q, e in factors]
+        if p % 2 == 0 or not 3 <= p <= 99999 or at > 0 and p <= thing[at - 1][0] or not 2 <= g <= p - 1:
+            return False
+        if qs != sorted(set(qs)) or not all(q in ahead and 1 <= e <= 130 for q, e in factors):
+            return False
+        if math.prod(q ** e for q, e in factors) != p - 1:
+            return False
+        if pow(g, p - 1, p) != 1 or any(pow(g, (p - 1) // q, p) == 1 for q in qs):
+            return False
+    return True
+
+
+def spoilt(thing):
+    """The thing with something in it otherwise, at each place, in several ways; some of these may be right still."""
+    if isinstance(thing, tuple):
+        yield list(thing)
+        yield thing[::-1]
+        yield thing + (0,)
+        for at, part in enumerate(thing):
+            yield thing[:at] + thing[at + 1:]
+            yield thing[:at] + (part,) + thing[at:]
+            for other in spoilt(part):
+                yield thing[:at] + (other,) + thing[at + 1:]
+    elif isinstance(thing, str):
+        yield from (thing + "s", "", (thing,), None, 0)
+    else:
+        yield from (thing + 1, thing - 1, -thing, 2 * thing, 0, 1, bool(thing), True, None, str(thing), (thing,),
+                [thing], thing + 10 ** 39)
 
 
 class Kept(unittest.TestCase):
@@ -75,6 +128,12 @@ class Judged(Kept):
         else:
             self.assert_no(statement, told[1])
         return told[1]
+
+    def assert_as_due(self, statement, thing, is_due_yes, is_due_no):
+        """Each side lets by just what is due on it, of the thing and of all that comes of it by spoiling it."""
+        for other in (thing, *spoilt(thing)):
+            self.assertIs(type(self).shows(statement, other), is_due_yes(statement, other), (statement, other))
+            self.assertIs(type(self).denies(statement, other), is_due_no(statement, other), (statement, other))
 
     def assert_only_statements(self, right, wrong, thing):
         """What is a yes or a no of the right one is neither of what is no statement of these sorts."""

@@ -5,7 +5,7 @@ import math
 import unittest
 
 from surenumbers.chains import chain_of, factors_of, is_chain
-from tests.helpers import ANYTHING, ODD_THINGS, Kept, deep
+from tests.helpers import ANYTHING, ODD_THINGS, Kept, deep, is_right_chain
 
 THREE = (3, 2, ((2, 1),))
 FIVE = (5, 2, ((2, 2),))
@@ -20,27 +20,12 @@ def product_of(factors):
     return math.prod(q ** e for q, e in factors)
 
 
-def looks_like_chain(thing):
-    """Point 9 word by word, for things of the right form."""
-    for at, (p, g, factors) in enumerate(thing):
-        ahead = [2] + [row[0] for row in thing[:at]]
-        qs = [q for q, e in factors]
-        if not (p % 2 == 1 and 3 <= p <= 99999 and (at == 0 or p > thing[at - 1][0]) and 2 <= g <= p - 1):
-            return False
-        if qs != sorted(set(qs)) or not all(q in ahead and 1 <= e <= 130 for q,
-                e in factors) or product_of(factors) != p - 1:
-            return False
-        if pow(g, p - 1, p) != 1 or any(pow(g, (p - 1) // q, p) == 1 for q in qs):
-            return False
-    return True
-
-
 class TestIsChain(Kept):
     def test_right_ones(self):
         for chain in ((), (THREE,), (FIVE,), (THREE, FIVE), (THREE, SEVEN), (FIVE, ELEVEN), RIGHT,
                 ((5, 3, ((2, 2),)),)):
             self.assert_true(is_chain(chain))
-            self.assert_true(looks_like_chain(chain))
+            self.assert_true(is_right_chain(chain))
         self.assert_true(is_chain(((17, 3, ((2, 4),)), (257, 3, ((2, 8),)), (65537, 3, ((2, 16),)))))
 
     def test_rows_that_nothing_needs(self):
@@ -54,7 +39,7 @@ class TestIsChain(Kept):
         for p in range(-1, 34):
             for g in range(-1, p + 2):
                 for factors in exponents:
-                    self.assertIs(is_chain(ahead + ((p, g, factors),)), looks_like_chain(ahead + ((p, g, factors),)))
+                    self.assertIs(is_chain(ahead + ((p, g, factors),)), is_right_chain(ahead + ((p, g, factors),)))
 
     def test_p(self):
         self.assert_false(is_chain(((2, 1, ((2, 1),)),)))
@@ -224,7 +209,7 @@ class TestChainOf(Kept):
     def assert_chain_of(self, primes):
         chain = chain_of(primes)
         self.assert_true(is_chain(chain))
-        self.assertIs(looks_like_chain(chain), True)
+        self.assertIs(is_right_chain(chain), True)
         self.assertLessEqual({p for p in primes if p != 2}, {row[0] for row in chain})
         self.assertLessEqual(len(chain), math.prod(primes).bit_length())
         return chain
