@@ -33,6 +33,13 @@ def is_form(thing, word, length):
     return isinstance(thing, tuple) and len(thing) == length and thing[0] == word
 
 
+def word_ahead(thing):
+    """The text that a tuple begins with; None where this is no tuple, or begins with none."""
+    if isinstance(thing, tuple) and len(thing) > 0 and isinstance(thing[0], str):
+        return thing[0]
+    return None
+
+
 def is_pair(thing):
     """Whether this is a tuple of two."""
     return isinstance(thing, tuple) and len(thing) == 2

@@ -1,6 +1,6 @@
 """Entries: statements with their grounds, claims with their workings, and what each of them needs."""
 
-from surenumbers.basics import are_wholes, is_form, is_whole, within
+from surenumbers.basics import are_wholes, is_form, is_whole, within, word_ahead
 from surenumbers.claims import is_claim, put_claim, working_holds
 from surenumbers.judging import statement_holds
 from surenumbers.statements import is_statement, put_in, span_of
@@ -47,10 +47,8 @@ FITS = {
 
 def is_ground(thing):
     """Whether this is a ground of some statement."""
-    if not isinstance(thing, tuple) or len(thing) == 0:
-        return False
-    word = thing[0]
-    if not isinstance(word, str) or word not in FITS or len(thing) != LENGTHS[word]:
+    word = word_ahead(thing)
+    if word not in FITS or len(thing) != LENGTHS[word]:
         return False
     fits = FITS[word]
     parts = thing[1:]

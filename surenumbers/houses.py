@@ -50,8 +50,7 @@ class House:
             return False
         if len(self) >= MANY:
             raise Full(MANY)
-        row = Looked(entry)
-        self.states += ((*self.rows(), row),)
+        self.states += (self.rows() + (Looked(entry),),)
         self.many_looked += 1
         return True
 

@@ -51,7 +51,7 @@ def is_open(thing, letters):
 
 def poly_plus(one, other, factor):
     """One polynomial, and another one so many times."""
-    both = dict(one)
+    both = {powers: one[powers] for powers in one}
     for powers in other:
         both[powers] = both.get(powers, 0) + factor * other[powers]
     return {powers: both[powers] for powers in both if both[powers] != 0}
@@ -75,9 +75,6 @@ def poly_of_number(number, letters):
 def poly_power(inner, times, letters):
     """The polynomial of an open term taken so many times."""
     power = poly_of_number(1, letters)
-    # What is taken no times need not be known.
-    if times == 0:
-        return power
     base = worked_out(inner, letters)
     for step in range(times):
         power = poly_times(power, base)

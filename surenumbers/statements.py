@@ -1,6 +1,7 @@
 """Statements: which things are some, of what they are made, which of their numbers are looked at."""
 
 from surenumbers.basics import are_factors, greatest_shared, is_form, is_from, is_pair, is_square, is_whole, within
+from surenumbers.basics import word_ahead
 from surenumbers.kinds import GREATEST_LOOKED_AT, WORDS
 from surenumbers.terms import is_term, worth_of
 
@@ -139,10 +140,8 @@ LOOKED_PLACES = {"prime": 1, "factors": 1, "square": 2, "squares": 2, "root": 2,
 
 def is_plain(thing):
     """Whether this is a statement that has no other one in it."""
-    if not isinstance(thing, tuple) or len(thing) == 0:
-        return False
-    word = thing[0]
-    if not isinstance(word, str) or word not in FITS or len(thing) != LENGTHS[word]:
+    word = word_ahead(thing)
+    if word not in FITS or len(thing) != LENGTHS[word]:
         return False
     fits = FITS[word]
     parts = thing[1:]

@@ -142,6 +142,31 @@ def is_wrong_function(node):
     return node.name.startswith("_") and node.name not in DUNDER_METHODS
 
 
+def is_simple(node):
+    """L6: what may be assigned in a `finally`, as far as this package has it."""
+    return isinstance(node, (ast.Name, ast.Attribute, ast.Constant))
+
+
+def is_wrong_finally(node):
+    """L6: rows of a `finally` that do more than assign or count."""
+    return any(not isinstance(row, (ast.Assign, ast.AugAssign)) or not is_simple(row.value) for row in node.finalbody)
+
+
+def is_wrong_raise(node):
+    """L19: an error is made on the spot, and comes from None or a name."""
+    if node.exc is not None and not (isinstance(node.exc, ast.Call) and isinstance(node.exc.func, ast.Name)):
+        return True
+    return node.cause is not None and not isinstance(node.cause, (ast.Name, ast.Constant))
+
+
+def methods_and_attributes():
+    """The names of all methods, and of all attributes that are assigned."""
+    rows = [row for place, node in nodes_of(ast.ClassDef) for row in node.body]
+    methods = {row.name for row in rows if isinstance(row, ast.FunctionDef)}
+    attributes = {node.attr for place, node in nodes_of(ast.Attribute) if isinstance(node.ctx, ast.Store)}
+    return methods, attributes
+
+
 class TestLanguage(unittest.TestCase):
     def assert_none(self, is_wrong, *kinds):
         self.assertEqual([(place, ast.unparse(node)) for place, node in nodes_of(*kinds) if is_wrong(node)], [])
@@ -226,6 +251,18 @@ class TestLanguage(unittest.TestCase):
         """L6, L19: the listed ones; errors are caught by their names."""
         self.assert_none(lambda node: not isinstance(node, STATEMENTS), ast.stmt)
         self.assert_none(lambda node: node.type is None, ast.ExceptHandler)
+
+    def test_errors(self):
+        """L6, L19."""
+        self.assert_none(is_wrong_finally, ast.Try)
+        self.assert_none(is_wrong_raise, ast.Raise)
+
+    def test_methods_and_attributes(self):
+        """L18, L26: no name is both, none is one that values of Python's own have."""
+        methods, attributes = methods_and_attributes()
+        own = {name for kind in (str, int, list, dict, set, bytes) for name in dir(kind)}
+        self.assertEqual(methods & attributes, set())
+        self.assertEqual({name for name in (methods | attributes) & own if not name.startswith("__")}, set())
 
     def test_functions_and_classes(self):
         """L4, L5."""
